@@ -573,6 +573,7 @@ func TestReplayGrantsBelow(t *testing.T) {
 		records []api.Msg
 		want    span
 	}{
+		{"-1", []api.Msg{writesRecord(5, -1)}, span{-1, -1}},
 		{"-5", []api.Msg{writesRecord(5, -5)}, span{-5, -5}},
 		{"-5, 0", []api.Msg{writesRecord(5, -5), writesRecord(5, 0)}, span{-5, 0}},
 		{"-5, 4", []api.Msg{writesRecord(5, -5), writesRecord(5, 4)}, span{-5, 4}},
